@@ -1,0 +1,88 @@
+"""What several tests need: plain things of all kinds, words one by one, thin rings."""
+
+import itertools
+import random
+
+LETTERS = "abcdef"
+BIG = LETTERS.upper()
+
+# Of every plain kind some; none of them is a letter, a step, rings, a table or a paper.
+ODD_THINGS = [
+    0, 1, 2, -1, 10 ** 39, True, False, None, "?", "g", " ", "aa?", [], ["a"], {}, {"a": "a"}, {0: 1},
+    ("a", 0), (0,), (None,), ((),), ([],), (True,), [[("a",)]], ("out",), ("out", 0, 0), {"out": ("a", 1)},
+]
+
+GENUS_TWO = ("abABcdCD",)
+THIN_PAIR = ("aabbccd", "eeeeeee")
+
+# Thin, each in another way: none, one and several, of one length or another, powers of a letter or of a root.
+THIN_RINGS = [
+    (), ("a",), ("aaaa",), ("abababababababab",), GENUS_TWO, ("abABcdCDefEF",), ("aabbccd",), THIN_PAIR,
+    ("aaaaaaaaaaaaa", "bbbbbbb"), ("abABcdCD" * 2,), ("abABcdCD", "dcDCbaBA"), ("abABcdCD", "cdCDabAB", "eee"),
+]
+
+
+def swapped(word):
+    """The back of a word, told by other means than the program's."""
+    return word[::-1].swapcase()
+
+
+def cancelled(word):
+    """What a word is reduced to, by taking out the first such pair again and again."""
+    while True:
+        for place in range(len(word) - 1):
+            if word[place + 1] == word[place].swapcase():
+                word = word[:place] + word[place + 2:]
+                break
+        else:
+            return word
+
+
+def words(many, length):
+    """All words of so many letters and this length."""
+    signs = LETTERS[:many] + BIG[:many]
+    return ["".join(picked) for picked in itertools.product(signs, repeat=length)]
+
+
+def words_up_to(many, length):
+    """All words of so many letters, of this length or shorter."""
+    return [word for size in range(length + 1) for word in words(many, size)]
+
+
+def picked_word(chance, many, length):
+    """Some word of so many letters and this length."""
+    signs = LETTERS[:many] + BIG[:many]
+    return "".join(chance.choice(signs) for place in range(length))
+
+
+def picked_round(chance, many, length):
+    """Some round word of so many letters and this length."""
+    signs = LETTERS[:many] + BIG[:many]
+    while True:
+        word = chance.choice(signs)
+        while len(word) < length:
+            word += chance.choice([sign for sign in signs if sign != word[-1].swapcase()])
+        if word[0] != word[-1].swapcase():
+            return word
+
+
+def all_turns(rings):
+    """All turns of the rings and of their backs."""
+    told = set()
+    for ring in rings:
+        for word in (ring, swapped(ring)):
+            told.update(word[place:] + word[:place] for place in range(len(word)))
+    return told
+
+
+def chance_of(seed):
+    """A source of picks that is the same in each run."""
+    return random.Random(seed)
+
+
+def nested(depth):
+    """A plain thing so many lists and tuples deep."""
+    thing = None
+    for level in range(depth):
+        thing = [thing] if level % 2 else (thing,)
+    return thing
