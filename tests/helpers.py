@@ -86,3 +86,50 @@ def nested(depth):
     for level in range(depth):
         thing = [thing] if level % 2 else (thing,)
     return thing
+
+
+def is_root(word):
+    """Whether a word is a root, by the words of point 3."""
+    if word == "" or cancelled(word + word) != word + word:
+        return False
+    return not any(word == word[:size] * (len(word) // size) for size in range(1, len(word)))
+
+
+def turned(word, place):
+    """The turn of a word from a place on."""
+    return word[place:] + word[:place]
+
+
+def all_surfaces(many):
+    """All surfaces of so many letters."""
+    return ["".join(row) for row in itertools.permutations(LETTERS[:many] + BIG[:many])]
+
+
+def picked_surface(chance, many):
+    """Some surface of so many letters."""
+    signs = list(LETTERS[:many] + BIG[:many])
+    chance.shuffle(signs)
+    return "".join(signs)
+
+
+def picked_way(chance, many, length):
+    """Some way of so many letters and this length; of one letter there are but two."""
+    if many == 1:
+        return chance.choice("aA")
+    while True:
+        word = picked_round(chance, many, length)
+        if is_root(word):
+            return word
+
+
+def picked_ways(chance, many, count, most):
+    """Some ways, each of at most so many letters, perhaps turns or backs of one another."""
+    ways = []
+    while len(ways) < count:
+        word = picked_way(chance, many, chance.randint(1, most))
+        if ways and chance.random() < 0.4:
+            word = chance.choice(ways)
+            word = turned(word, chance.randrange(len(word)))
+            word = chance.choice([word, swapped(word)])
+        ways.append(word)
+    return tuple(ways)

@@ -15,7 +15,7 @@ class Readme(unittest.TestCase):
                 code, mark, told = row.partition("  # ")
                 if not mark:
                     exec(code, names)
-                elif "=" not in code:
+                elif " = " not in code:
                     wanted = told.split(": ")[0].strip()
                     self.assertEqual(eval(code.strip(), names), ast.literal_eval(wanted), row)
                     seen += 1
