@@ -133,3 +133,60 @@ def picked_ways(chance, many, count, most):
             word = chance.choice([word, swapped(word)])
         ways.append(word)
     return tuple(ways)
+
+
+def strands_by_letter(surface, ways):
+    """For each letter of the surface the strands through its band."""
+    told = [[] for letter in LETTERS[:len(surface) // 2]]
+    for number, way in enumerate(ways):
+        for place, letter in enumerate(way):
+            told[LETTERS.index(letter.lower())].append((number, place))
+    return told
+
+
+def all_drawings(surface, ways):
+    """All drawings of the ways."""
+    return list(itertools.product(*[itertools.permutations(row) for row in strands_by_letter(surface, ways)]))
+
+
+def picked_drawing(chance, surface, ways):
+    """Some drawing of the ways."""
+    return tuple(tuple(chance.sample(row, len(row))) for row in strands_by_letter(surface, ways))
+
+
+def picked_case(chance, most):
+    """Some surface of one to six letters, with one to four ways of at most so many letters in all."""
+    many = chance.randint(1, 6)
+    count = chance.randint(1, 4)
+    return picked_surface(chance, many), picked_ways(chance, many, count, max(1, min(30, most // count)))
+
+
+def drawn_points(surface, drawing):
+    """The points of a drawing, by the words of points 3 and 32."""
+    told = []
+    for end in surface:
+        row = list(drawing[LETTERS.index(end.lower())])
+        if end.isupper():
+            row.reverse()
+        told += [(end, strand) for strand in row]
+    return told
+
+
+def drawn_crossings(surface, ways, drawing):
+    """The crossings of a drawing: each point is given to the chord that it belongs to, and these are met by turns."""
+    row = []
+    for end, strand in drawn_points(surface, drawing):
+        way, place = strand
+        comes_in = end == ways[way][place].swapcase()
+        row.append(strand if comes_in else (way, (place - 1) % len(ways[way])))
+    told = []
+    for one, other in itertools.combinations(sorted(set(row)), 2):
+        met = [strand for strand in row if strand in (one, other)]
+        if met in ([one, other, one, other], [other, one, other, one]):
+            told.append((one, other))
+    return told
+
+
+def replaced(row, place, part):
+    """The tuple with another thing at a place."""
+    return row[:place] + (part,) + row[place + 1:]
