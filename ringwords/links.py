@@ -10,11 +10,26 @@ def links(surface, ways, i, j):
     told = []
     for p in range(len(ways[i])):
         for q in range(len(ways[j])):
-            if (i, p) < (j, q):
-                told.extend(beside_at(surface, ways, (i, p), (j, q)))
-                told.extend(along_at(surface, ways, (i, p), (j, q)))
-            told.extend(against_at(surface, ways, (i, p), (j, q)))
+            told.extend(links_at(surface, ways, (i, p), (j, q)))
     return sorted(told)
+
+
+def all_links(surface, ways):
+    """All links of the ways, of whichever two or one, rising."""
+    told = []
+    for i in range(len(ways)):
+        for j in range(i, len(ways)):
+            told.extend(links(surface, ways, i, j))
+    return sorted(told)
+
+
+def links_at(surface, ways, one, other):
+    """The links that are told by these two strands, in this order, in a list."""
+    told = against_at(surface, ways, one, other)
+    if one < other:
+        told.extend(along_at(surface, ways, one, other))
+        told.extend(beside_at(surface, ways, one, other))
+    return told
 
 
 def beside_at(surface, ways, one, other):

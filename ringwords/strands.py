@@ -31,7 +31,12 @@ def strands_through(ways, letter):
 
 def strand_behind(ways, strand):
     """The next strand of the same way."""
-    return (strand[0], (strand[1] + 1) % len(ways[strand[0]]))
+    return strand_on(ways, strand, 1)
+
+
+def strand_on(ways, strand, step):
+    """The strand of the same way so many places further on, round its way."""
+    return (strand[0], (strand[1] + step) % len(ways[strand[0]]))
 
 
 def met(ways, walk, step):

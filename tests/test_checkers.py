@@ -1,11 +1,9 @@
-import copy
 import unittest
 
-from ringwords.errors import NoPaper
 from ringwords.nonechecker import lets_none
 from ringwords.nothingchecker import lets_nothing
 from ringwords.tables import lined
-from tests.helpers import GENUS_TWO, ODD_THINGS, nested, swapped
+from tests.helpers import GENUS_TWO, ODD_THINGS, CheckerTest, nested, swapped
 
 RING = GENUS_TWO[0]
 HALF_TURN = ((1, 0),)
@@ -15,21 +13,6 @@ WRONG_STEPS = [
     (("ring", 0, "a", True),), (("ring", 0, "a", -1),), (("ring", 0, 0, 0),), ("out", 0), ("out",), (None,), ((),),
     (("out", 0), None), (("out", 0), ["out", 0]), (("out", 0), ("out", -1)), ({},), ([],), ("",), nested(100),
 ]
-
-
-class CheckerTest(unittest.TestCase):
-    def refused(self, word, at, look, *things):
-        kept = copy.deepcopy(things)
-        with self.assertRaises(NoPaper) as caught:
-            look(*things)
-        self.assertEqual((caught.exception.word, caught.exception.at), (word, at), things)
-        self.assertEqual([type(caught.exception.word), type(caught.exception.at)], [str, int])
-        self.assertEqual(repr(things), repr(kept))
-
-    def let_by(self, look, *things):
-        kept = copy.deepcopy(things)
-        self.assertIs(look(*things), True)
-        self.assertEqual(repr(things), repr(kept))
 
 
 class Nothing(CheckerTest):

@@ -4,60 +4,8 @@ import unittest
 
 from ringwords.drawings import crossed, crossings, is_drawing, points
 from tests.helpers import (
-    ODD_THINGS, all_drawings, chance_of, drawn_crossings, drawn_points, nested, picked_case, picked_drawing, replaced,
-    strands_by_letter)
-
-
-def bent_orders(ways, order, others):
-    """Orders that are no order of the same strands, each bent at one place."""
-    for place, strand in enumerate(order):
-        way, at = strand
-        yield order[:place] + order[place + 1:]
-        yield order[:place] + (strand,) + order[place:]
-        yield order + (strand,)
-        for other in others:
-            if other != strand:
-                yield replaced(order, place, other)
-        for wrong in [
-                (len(ways), at), (-1, at), (way - len(ways), at), (way, len(ways[way])), (way, -1), (way, at - len(ways[way])),
-                (way, at + len(ways[way])), [way, at], (way,), (at,), (way, at, 0), (strand,), way, None, "", "00", {way: at},
-                {}, (), [], (str(way), at), (way, None), ((way,), at), [strand], (10 ** 39, at), (way, 10 ** 39), nested(90)]:
-            yield replaced(order, place, wrong)
-        if way in (0, 1):
-            yield replaced(order, place, (bool(way), at))
-        if at in (0, 1):
-            yield replaced(order, place, (way, bool(at)))
-        if way in (0, 1) and at in (0, 1):
-            yield replaced(order, place, (bool(way), bool(at)))
-    for other in others:
-        if other not in order:
-            yield order + (other,)
-            yield (other,) + order
-    for wrong in [list(order), None, True, False, 0, 1, "", {}, dict.fromkeys(order), (order,), order + (None,), [], order + ((),)]:
-        yield wrong
-
-
-def bent_drawings(surface, ways, drawing):
-    """Things that are no drawing of the ways, each bent at one place."""
-    others = [strand for order in drawing for strand in order]
-    for number, order in enumerate(drawing):
-        for bent in bent_orders(ways, order, others):
-            yield replaced(drawing, number, bent)
-        yield drawing[:number] + drawing[number + 1:]
-        yield drawing[:number] + ((),) + drawing[number:]
-        yield drawing[:number] + (order,) + drawing[number:]
-    for one, other in itertools.combinations(range(len(drawing)), 2):
-        for near, far in itertools.product(range(len(drawing[one])), range(len(drawing[other]))):
-            bent = replaced(drawing, one, replaced(drawing[one], near, drawing[other][far]))
-            yield replaced(bent, other, replaced(drawing[other], far, drawing[one][near]))
-        if drawing[one] or drawing[other]:
-            yield replaced(replaced(drawing, one, drawing[other]), other, drawing[one])
-    yield list(drawing)
-    yield dict(enumerate(drawing))
-    yield (drawing,)
-    yield drawing + ((),)
-    yield drawing + (drawing[0],)
-    yield drawing + (None,)
+    ODD_THINGS, all_drawings, bent_drawings, chance_of, drawn_crossings, drawn_points, nested, picked_case,
+    picked_drawing, replaced, strands_by_letter)
 
 
 class Kinds(unittest.TestCase):

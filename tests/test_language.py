@@ -178,6 +178,7 @@ class Language(unittest.TestCase):
                     self.assertTrue(plain, (stem, node.name))
 
     def test_attributes_and_methods(self):
+        own = [part.name for stem, node in self.nodes(ast.ClassDef) for part in node.body if isinstance(part, ast.FunctionDef)]
         for stem, tree in self.trees.items():
             around = parents(tree)
             for node in ast.walk(tree):
@@ -185,9 +186,9 @@ class Language(unittest.TestCase):
                     self.assertNotIn(node.attr, BARRED_NAMES, (stem, node.lineno))
                     called = isinstance(around[node], ast.Call) and around[node].func is node
                     if called:
-                        self.assertIn(node.attr, METHODS, (stem, node.lineno))
+                        self.assertIn(node.attr, METHODS + own, (stem, node.lineno))
                     else:
-                        self.assertNotIn(node.attr, METHODS, (stem, node.lineno))
+                        self.assertNotIn(node.attr, METHODS + own, (stem, node.lineno))
 
     def test_walked_on_the_spot(self):
         for stem, tree in self.trees.items():

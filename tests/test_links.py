@@ -3,58 +3,8 @@ import unittest
 from ringwords.balance import balance
 from ringwords.links import links
 from tests.helpers import (
-    all_surfaces, chance_of, drawn_crossings, is_root, picked_case, picked_drawing, picked_surface, picked_way, swapped,
-    turned, words_up_to)
-
-# Each goes along the next one for two letters fewer than both have together.
-FIBONACCI = ("ab", "aba", "abaab", "abaababa", "abaababaabaab", "abaababaabaababaababa")
-
-
-def is_ahead(surface, start, one, other):
-    """Whether going round from the start one meets the one end ahead of the other."""
-    for end in turned(surface, surface.index(start))[1:]:
-        if end in (one, other):
-            return end == one
-
-
-def sought_links(surface, ways, i, j):
-    """The links, by the words of point 34."""
-    return sorted(
-        {link for p in range(len(ways[i])) for q in range(len(ways[j])) for link in links_from(surface, ways, i, p, j, q)})
-
-
-def links_from(surface, ways, i, p, j, q):
-    def one(place):
-        return ways[i][place % len(ways[i])]
-
-    def other(place):
-        return ways[j][place % len(ways[j])]
-
-    told = []
-    if (i, p) < (j, q):
-        ends = [one(p).swapcase(), one(p + 1), other(q).swapcase(), other(q + 1)]
-        met = [ends.index(end) // 2 for end in surface if end in ends]
-        if len(set(ends)) == 4 and met in ([0, 1, 0, 1], [1, 0, 1, 0]):
-            told.append(("beside", (i, p), (j, q)))
-    most = len(ways[i]) + len(ways[j]) + 2
-    for many in range(1, most):
-        if (i, p) >= (j, q) or one(p + many - 1) != other(q + many - 1):
-            break
-        if one(p - 1) != other(q - 1) and one(p + many) != other(q + many):
-            here = is_ahead(surface, one(p + many - 1).swapcase(), one(p + many), other(q + many))
-            there = is_ahead(surface, one(p), one(p - 1).swapcase(), other(q - 1).swapcase())
-            if here == there:
-                told.append(("along", (i, p), (j, q), many))
-    for many in range(1, most):
-        if one(p + many - 1) != other(q - many + 1).swapcase():
-            break
-        if one(p - 1) != other(q + 1).swapcase() and one(p + many) != other(q - many).swapcase():
-            here = is_ahead(surface, one(p + many - 1).swapcase(), one(p + many), other(q - many).swapcase())
-            there = is_ahead(surface, one(p), one(p - 1).swapcase(), other(q + 1))
-            if here == there:
-                again = ((j, (q - many + 1) % len(ways[j])), (i, (p + many - 1) % len(ways[i])))
-                told.append(("against",) + min(((i, p), (j, q)), again) + (many,))
-    return told
+    FIBONACCI, all_surfaces, chance_of, drawn_crossings, is_root, picked_case, picked_drawing, picked_surface, picked_way,
+    sought_links, swapped, turned, words_up_to)
 
 
 class LinksTest(unittest.TestCase):
