@@ -9,11 +9,11 @@ from ringwords.letters import is_word
 from ringwords.links import links
 from ringwords.maps import way_by
 from ringwords.nothingchecker import lets_nothing
-from ringwords.rounds import core, least_turn
 from ringwords.same import same_paper
 from ringwords.slides import maps_of, slid
 from ringwords.steptexts import read_steps, shown_steps
 from ringwords.surfaces import MOST_ENDS, MOST_WAY_LETTERS, is_way
+from ringwords.turning import least_middle
 
 
 class Desk:
@@ -109,11 +109,10 @@ class Desk:
 
     def keep(self, name, word):
         """Keeps a way by a name; refused with NoWay."""
-        # The middle is a way just where its turns are, and it may be too long to list them.
-        middle = core(word)[1]
-        if not is_way(self.surface, middle):
+        least = least_middle(word)
+        if not is_way(self.surface, least):
             raise NoWay(name)
-        self.words[name] = least_turn(middle)
+        self.words[name] = least
 
     def cap(self, hole, count):
         """Caps a hole so many times, or lets its cap go; refused with NoWay."""

@@ -5,13 +5,12 @@ from ringwords.letters import SMALL, back, reduced
 
 def core(word):
     """The pair (front, middle): the word is reduced to front, middle, front's back."""
-    front = ""
-    middle = reduced(word)
+    whole = reduced(word)
+    size = 0
     # A reduced word can't lose all its letters here: the last two would be a letter and its back.
-    while middle != "" and middle[-1] == back(middle[0]):
-        front = front + middle[0]
-        middle = middle[1:-1]
-    return (front, middle)
+    while 2 * size < len(whole) and whole[size] == back(whole[-1 - size]):
+        size += 1
+    return (whole[:size], whole[size:len(whole) - size])
 
 
 def turns(word):
@@ -23,7 +22,32 @@ def turns(word):
 
 def least_turn(word):
     """The first of the turns, as texts rise."""
-    return min(turns(word))
+    place = least_place(word)
+    return word[place:] + word[:place]
+
+
+def least_place(word):
+    """A place from which on the least turn begins.
+
+    Told words may be too long to list all their turns. Of two turns that are alike for some letters and then part, none
+    that begins within these letters of the greater one is the least: the same place within the lesser one beats it.
+    """
+    twice = word + word
+    one = 0
+    other = 1
+    size = 0
+    while max(one, other) < len(word) and size < len(word):
+        if twice[one + size] == twice[other + size]:
+            size += 1
+        else:
+            if twice[one + size] > twice[other + size]:
+                one += size + 1
+            else:
+                other += size + 1
+            if one == other:
+                other += 1
+            size = 0
+    return min(one, other)
 
 
 def rooted(word):

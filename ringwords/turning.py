@@ -2,7 +2,7 @@
 
 from ringwords.errors import NoPaper
 from ringwords.letters import MOST_MANY, back, is_word, power, reduced, times
-from ringwords.rounds import core, least_turn, rooted, turns
+from ringwords.rounds import core, least_turn, rooted
 
 
 def commuting(one, other):
@@ -84,5 +84,5 @@ def turning(one, other):
     mine = core(one)
     theirs = core(other)
     # The other's middle is the one's from some place on: the letters ahead of that place turn the one into the other.
-    ahead = mine[1][:turns(mine[1]).index(theirs[1])]
+    ahead = mine[1][:(mine[1] + mine[1]).find(theirs[1])]
     return ("alike", reduced(theirs[0] + back(ahead) + back(mine[0])))

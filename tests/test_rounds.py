@@ -28,6 +28,8 @@ class Core(unittest.TestCase):
         front = "abcdefAB" * 12
         self.assertEqual(core(front + "cd" + swapped(front)), (front, "cd"))
         self.assertEqual(core(front + swapped(front)), ("", ""))
+        front = "ab" * 20000
+        self.assertEqual(core(front + "c" + swapped(front)), (front, "c"))
 
 
 class Turns(unittest.TestCase):
@@ -65,6 +67,21 @@ class Turns(unittest.TestCase):
         for word in words_up_to(2, 5):
             if word:
                 self.assertEqual(least_turn(word), sorted((word + word)[k:k + len(word)] for k in range(len(word)))[0])
+
+
+    def test_least_of_picked_words_and_their_powers(self):
+        chance = chance_of(122)
+        for turn in range(400):
+            word = picked_word(chance, chance.randint(1, 2), chance.randint(1, 14)) * chance.randint(1, 3)
+            self.assertEqual(least_turn(word), min(turns(word)), word)
+
+    def test_least_of_long_words(self):
+        # Words told elsewhere may be so long that there is no room for all their turns.
+        self.assertEqual(least_turn("b" + "ab" * 30000), "ab" * 30000 + "b")
+        self.assertEqual(least_turn("a" * 60000), "a" * 60000)
+        self.assertEqual(least_turn("a" * 30000 + "b" + "a" * 30000), "a" * 60000 + "b")
+        self.assertEqual(least_turn("ab" * 30000 + "aab"), "aab" + "ab" * 30000)
+        self.assertEqual(least_turn("aab" * 20000 + "A"), "A" + "aab" * 20000)
 
 
 class Roots(unittest.TestCase):

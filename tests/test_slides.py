@@ -175,6 +175,21 @@ class Rows(SlideTest):
             self.assertEqual(then(told[1], told[2]), tuple(LETTERS[:len(surface) // 2]))
             self.assertEqual(told[0], self.row_behind(surface, slides))
 
+    def test_sixteen_by_which_words_grow(self):
+        # Each of both leaves the row, and by turns they make words longer and longer.
+        slides = ((3, 1), (0, -1)) * 8
+        row, over, home = told_by("bABa", slides)
+        self.assertEqual(row, "bABa")
+        self.assertEqual([len(word) for word in over], [2584, 1597])
+        long = way_by(over, "ab" * 14 + "ba")
+        self.assertEqual(len(long), 15 * (2584 + 1597))
+        some = [turned(long, place) for place in range(0, len(long), 997)]
+        self.assertEqual(min(some), long)
+        row, over, home = told_by("bABa", slides[:8])
+        self.assertEqual([mapped(home, word) for word in over], ["a", "b"])
+        self.assertEqual([mapped(over, word) for word in home], ["a", "b"])
+        self.assertEqual(way_by(home, way_by(over, "ab" * 14 + "ba")), "a" + "ab" * 14 + "b")
+
     def row_behind(self, surface, slides):
         for slide in slides:
             surface = slid_by_words(surface, slide)
