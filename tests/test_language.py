@@ -159,6 +159,13 @@ class Language(unittest.TestCase):
             for part in node.body:
                 self.assertTrue(is_docstring(part) or isinstance(part, ast.FunctionDef), (stem, node.name))
 
+    def test_methods_are_no_values(self):
+        methods = [part.name for stem, node in self.nodes(ast.ClassDef) for part in node.body if isinstance(part, ast.FunctionDef)]
+        values = [node.attr for stem, node in self.nodes(ast.Attribute) if isinstance(node.ctx, ast.Store)]
+        self.assertIn("say", methods)
+        self.assertIn("place", values)
+        self.assertEqual(set(methods) & set(values), set())
+
     def test_names(self):
         for stem, tree in self.trees.items():
             taken = {alias.name for node in tree.body if isinstance(node, ast.ImportFrom) for alias in node.names}
